@@ -1,0 +1,1 @@
+"""Asktally: talks about how many settings make a formula hold."""
