@@ -40,6 +40,10 @@ class ReadTree(unittest.TestCase):
             self.assertEqual(read_tree(name), ("is", name))
             self.assertEqual(read_tree(f"(not {name} or {name})"), ("or", ("not", ("is", name)), ("is", name)))
 
+    def test_names_of_each_letter(self):
+        for letter in "abcdefghijklmnopqrstuvwxyz":
+            self.assertEqual(read_tree(f"({letter} odd z{letter}z)"), ("odd", ("is", letter), ("is", f"z{letter}z")))
+
     def test_kept_words_alone(self):
         for word in KEPT_ALONE:
             self.refused(word)

@@ -66,6 +66,12 @@ class Names(unittest.TestCase):
         self.no("a\n")
         self.no("abcdef\n")
 
+    def test_every_ascii_sign(self):
+        for number in range(128):
+            sign = chr(number)
+            self.assertIs(is_name(sign), "a" <= sign <= "z", repr(sign))
+            self.assertIs(is_name("b" + sign), "a" <= sign <= "z", repr(sign))
+
 
 class Figures(unittest.TestCase):
     def yes(self, text):
@@ -101,6 +107,12 @@ class Figures(unittest.TestCase):
             self.no(sign)
             for text in at_every_place(sign, "123"):
                 self.no(text)
+
+    def test_every_ascii_sign(self):
+        for number in range(128):
+            sign = chr(number)
+            self.assertIs(is_figures(sign), "0" <= sign <= "9", repr(sign))
+            self.assertIs(is_figures("7" + sign), "0" <= sign <= "9", repr(sign))
 
     def test_what_int_would_take(self):
         for text in ("+1", "-1", "1_000", " 1", "1 ", "1\n", "1.", "1.0", "1e3", "0x1"):
