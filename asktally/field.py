@@ -27,3 +27,8 @@ def inverse_of(a, p):
         rest = lesser
         factor = lesser_factor
     return factor
+
+
+# Python counts True and False among its whole numbers; here they are none.
+def is_number(value, p):
+    return isinstance(value, int) and not isinstance(value, bool) and 0 <= value < p

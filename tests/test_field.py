@@ -1,6 +1,6 @@
 import unittest
 
-from asktally.field import inverse_of, is_field
+from asktally.field import inverse_of, is_field, is_number
 
 
 def odd_primes_below(bound):
@@ -59,6 +59,18 @@ class InverseOf(unittest.TestCase):
     def test_an_inverse_turned_round_again(self):
         for a in range(1, 101):
             self.assertEqual(inverse_of(inverse_of(a, 101), 101), a)
+
+
+class IsNumber(unittest.TestCase):
+    def test_numbers_of_the_field(self):
+        for p in (3, 7, 999983):
+            for number in (0, 1, 2, p - 1):
+                self.assertIs(is_number(number, p), True)
+
+    def test_others(self):
+        for p in (3, 7, 999983):
+            for value in (-1, -p, p, p + 1, 999999999999, True, False, None, "1", "", (1,), [1], 1.0):
+                self.assertIs(is_number(value, p), False)
 
 
 if __name__ == "__main__":

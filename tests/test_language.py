@@ -27,6 +27,17 @@ OWN_METHODS = frozenset(
     "items join keys ljust lower lstrip partition pop remove replace reverse rfind rjust rpartition rsplit rstrip "
     "setdefault split splitlines startswith strip update upper values zfill bit_length".split()
 )
+KEYWORDS = {
+    "sorted": frozenset(("key", "reverse")),
+    "min": frozenset(("key", "default")),
+    "max": frozenset(("key", "default")),
+    "sum": frozenset(("start",)),
+    "enumerate": frozenset(("start",)),
+    "zip": frozenset(("strict",)),
+}
+WALKED = frozenset(("zip", "enumerate", "reversed", "range", "items", "keys", "values"))
+WALKING = frozenset(("list", "tuple", "dict", "sorted", "sum", "any", "all", "enumerate", "zip", "min", "max"))
+VALUES_ALLOWED = frozenset(("count", "index", "title", "find", "get", "join", "lower", "upper", "split", "strip", "copy"))
 TWO_UNDERSCORES = frozenset(("__init__", "__eq__", "__repr__", "__str__", "__len__"))
 WORDS_OUT = re.compile(
     r"\b(type|typing|typing_extensions|enum|Enum|IntEnum|StrEnum|Flag|IntFlag|Generic|Protocol|ABC|ABCMeta|namedtuple"
@@ -166,7 +177,7 @@ class Language(unittest.TestCase):
                 self.assertIsInstance(node.value, ast.Name, where)
                 values.add(node.attr)
         self.assertEqual(values & methods, set())
-        self.assertEqual(values & PYTHONS_METHODS - {"count", "index", "title", "find", "get", "join"}, set())
+        self.assertEqual(values & PYTHONS_METHODS - VALUES_ALLOWED, set())
 
     def test_names(self):
         made = {node.name for _, node in self.nodes((ast.FunctionDef, ast.ClassDef))}
@@ -192,6 +203,52 @@ class Language(unittest.TestCase):
             self.assertIsNotNone(node.type, where)
             taken = node.type.elts if isinstance(node.type, ast.Tuple) else [node.type]
             self.assertFalse({part.id for part in taken} & {"Exception", "TypeError"}, where)
+
+    def test_no_annotations(self):
+        for where, node in self.nodes(ast.arg):
+            self.assertIsNone(node.annotation, where)
+        for where, node in self.nodes(ast.FunctionDef):
+            self.assertIsNone(node.returns, where)
+
+    def test_keywords(self):
+        for where, node in self.nodes(ast.Call):
+            name = node.func.id if isinstance(node.func, ast.Name) else node.func.attr
+            if name in OWN_NAMES | OWN_METHODS:
+                given = {part.arg for part in node.keywords}
+                self.assertLessEqual(given, KEYWORDS.get(name, frozenset()), where)
+
+    def test_walked_at_once(self):
+        for name, tree in self.trees.items():
+            walked = []
+            for node in ast.walk(tree):
+                if isinstance(node, (ast.For, ast.comprehension)):
+                    walked.append(node.iter)
+                if isinstance(node, ast.Call) and isinstance(node.func, ast.Name) and node.func.id in WALKING:
+                    walked += node.args if node.func.id == "zip" else node.args[:1]
+            for node in ast.walk(tree):
+                if isinstance(node, ast.Call) and getattr(node.func, "id", getattr(node.func, "attr", "")) in WALKED:
+                    self.assertIn(node, walked, f"{name}:{node.lineno}")
+
+    def test_locals_are_not_called_like_classes_and_imports(self):
+        for name, tree in self.trees.items():
+            above = {node.name for node in tree.body if isinstance(node, ast.ClassDef)}
+            for node in tree.body:
+                if isinstance(node, ast.ImportFrom):
+                    above |= {part.asname or part.name for part in node.names}
+            made = {node.arg for node in ast.walk(tree) if isinstance(node, ast.arg)}
+            made |= {node.id for node in ast.walk(tree) if isinstance(node, ast.Name) and isinstance(node.ctx, ast.Store)}
+            self.assertEqual(made & above, set(), name)
+
+    def test_sets_are_not_kept(self):
+        for where, node in self.nodes(ast.Name):
+            self.assertNotIn(node.id, ("set", "frozenset"), where)
+
+    def test_methods_are_called_where_they_stand(self):
+        methods = {part.name for _, node in self.nodes(ast.ClassDef) for part in node.body} | OWN_METHODS
+        called = {id(node.func) for _, node in self.nodes(ast.Call)}
+        for where, node in self.nodes(ast.Attribute):
+            if node.attr in methods - VALUES_ALLOWED:
+                self.assertIn(id(node), called, where)
 
 
 if __name__ == "__main__":
