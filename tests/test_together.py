@@ -3,11 +3,9 @@
 import itertools
 import unittest
 
-from asktally.doubter import Doubter, told_ahead
-from asktally.helptexts import read_helper
-from asktally.machine import Machine
+from asktally.doubter import told_ahead
 from asktally.truth import counts_of
-from helper import game_of
+from helper import HONEST, all_coins, by_turns, game_of, liar
 
 GAMES = (
     ("", ["yes", "no"], 5),
@@ -17,33 +15,6 @@ GAMES = (
     ("x y", ["(x or (y and x))", "not y"], 5),
     ("x y", ["(x odd y)", "x", "(x and (y and x))"], 3),
 )
-HONEST = "set i 0\nsay (true i)\nset i (+ i 1)\ngo 1"
-
-
-def liar(claims):
-    """Claims these, then says the true row but for the number at 1, so that the row adds up."""
-    rows = ["say (true 0)", "say (- due (true 0))", "set i 2", "say (true i)", "set i (+ i 1)"]
-    start = len(claims) + 2
-    head = [f"if round {start}"] + [f"say {claim}" for claim in claims] + ["end"]
-    halves = [f"if (= asked 1) {start + 7}"]
-    return "\n".join(head + halves + rows + [f"go {start + 4}", "say (/ due 2)"])
-
-
-def talked(game, text, coins):
-    """The doubter, behind a talk with a helper by a row of coins."""
-    machine, doubter = Machine(game, read_helper(text)), Doubter(game)
-    doubter.hear(machine.say(len(game.trees), 0, 0, []))
-    left, s = list(coins), 0
-    if len(game.trees) > 1:
-        s = left.pop(0)
-        doubter.toss(s)
-    tossed = []
-    while doubter.waits()[0] == "hear":
-        doubter.hear(machine.say(doubter.waits()[1], doubter.due(), s, tossed))
-        if doubter.waits() == ("coin",):
-            tossed.append(left.pop(0))
-            doubter.toss(tossed[-1])
-    return doubter
 
 
 def most(game, claims):
@@ -60,7 +31,7 @@ def most(game, claims):
 
 class Together(unittest.TestCase):
     def ends(self, game, text):
-        return [talked(game, text, coins) for coins in itertools.product(range(game.field), repeat=game.coins())]
+        return [by_turns(game, text, coins)[1] for coins in all_coins(game)]
 
     def test_who_says_what_is_true_is_believed(self):
         for parts in GAMES:
