@@ -95,7 +95,7 @@ class Together(unittest.TestCase):
         for parts in GAMES + SMALL_GAMES:
             game = game_of(*parts)
             for text in self.texts_for(game):
-                for coins in all_coins(game)[::2]:
+                for coins in all_coins(game):
                     doubter = by_turns(game, text, coins)[1]
                     if doubter.waits() == ("believed",):
                         self.assertEqual(doubter.looked(), told_ahead(game))
@@ -107,7 +107,7 @@ class Together(unittest.TestCase):
             game = game_of(*parts)
             for text in self.texts_for(game):
                 helper = read_helper(text)
-                for coins in all_coins(game)[::2]:
+                for coins in all_coins(game):
                     talk, end = talked(game, helper, coins)
                     self.assertEqual(judged(game, read_talk(talk_text(talk))), end)
                     self.assertEqual(judged(game, talk), end)
